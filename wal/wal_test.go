@@ -638,6 +638,117 @@ func TestLossesInGreatCommits(t *testing.T) {
 	}
 }
 
+// holds: whether a journal has a block of these bytes.
+func holds(image []byte, data []byte) bool {
+	for block := range walBlocks {
+		if bytes.Equal(image[block*blockLen:][:blockLen], data) {
+			return true
+		}
+	}
+	return false
+}
+
+// watch: a commit's changes, and the blocks ahead of it and behind it.
+type watch struct {
+	t         *testing.T
+	old, done content
+	list      []api.Change
+}
+
+// check: that a disk, the power being gone or not, has blocks behind the journal that aren't as they were only if all new bytes of the commit are safe in the journal, or if all of them are at their places.
+func (w watch) check(d *disk.Disk) {
+	w.t.Helper()
+	image, changed := d.Image(), false
+	for block := range d.Blocks() - walBlocks {
+		b, _ := d.Read(walBlocks + block)
+		changed = changed || content(b) != w.old[block*blockLen:][:blockLen]
+	}
+	if !changed || content(image[walBlocks*blockLen:]) == w.done {
+		return
+	}
+	for _, one := range w.list {
+		if !holds(image, one.Data) {
+			w.t.Fatalf("a block is laid, though the new bytes of block %d aren't safe", one.Block)
+		}
+	}
+}
+
+// of: a deed behind which is looked whether that holds, while the power is still gone.
+func (w watch) of(deed func(*disk.Disk, *wal.Wal) api.Code) func(*disk.Disk, *wal.Wal) api.Code {
+	return func(d *disk.Disk, j *wal.Wal) api.Code {
+		code := deed(d, j)
+		w.check(d)
+		return code
+	}
+}
+
+// P10.3, P10.4: wherever the power goes in a commit, and in the openings behind it, and whatever survives: no block is laid unless all new bytes of the commit are safe.
+func TestNothingIsLaidAheadOfItsBytes(t *testing.T) {
+	for _, s := range append(few(), many()[:5]...) {
+		old := s.old().with(s.writes...)
+		w := watch{t, old, old.with(s.list...), s.list}
+		r := rand.New(rand.NewSource(50))
+		image := filled(t, old).Image()
+		commit := w.of(func(_ *disk.Disk, j *wal.Wal) api.Code { return j.Commit(s.list) })
+		open := w.of(opening(t))
+		known := map[string]bool{}
+		losses(t, image, func(d *disk.Disk) *wal.Wal { return opened(t, d) }, commit, func(l loss) {
+			if known[string(l.image)] {
+				return
+			}
+			known[string(l.image)] = true
+			w.check(loaded(t, l.image))
+			if s.blocks <= 3 {
+				losses(t, l.image, nothing, open, func(l loss) { w.check(loaded(t, l.image)) })
+				return
+			}
+			d := loaded(t, l.image)
+			d.Arm(1 + r.Intn(60))
+			open(d, nil)
+			d.Crash(drawnKeep(r, d.Waiting()))
+			w.check(d)
+		})
+	}
+}
+
+// P10.3, P10.4: that a commit is whole hangs on no digest: where some of its new bytes were lost it is forgotten, even if others come to be there that have the digest of what was lost. (As nobody knows such bytes, they are here the very ones that were lost.)
+func TestLostBytesThatComeToBeThere(t *testing.T) {
+	for _, s := range append(few(), many()[:5]...) {
+		if len(s.list) == 0 || s.old().with(s.list...) == s.old() {
+			continue
+		}
+		r := reckoned{safe: s.old(), waits: s.writes}
+		all := s.old().with(s.writes...) // ahead of the commit more may be made safe than what survives by choice
+		image := filled(t, s.old()).Image()
+		whole, lost := caught(t, loaded(t, image), s.list...), 0
+		losses(t, image, s.prepare(t), func(_ *disk.Disk, w *wal.Wal) api.Code { return w.Commit(s.list) }, func(l loss) {
+			put := withBytesOf(l.image, whole, s.list)
+			if bytes.Equal(put, l.image) {
+				return
+			}
+			lost++
+			if got := plain(t, put).content; l.code == api.OK || got != all && !slices.Contains(r.lose(l.keep), got) {
+				t.Fatalf("%s: act %d, code %d, keeping %v: a commit is laid, though it had lost bytes", s.name, l.act, l.code, l.keep)
+			}
+		})
+		if lost == 0 && !holds(image, s.list[0].Data) {
+			t.Errorf("%s: no bytes were ever lost", s.name)
+		}
+	}
+}
+
+// withBytesOf: an image in whose journal the new bytes of a commit lie as they do in another one.
+func withBytesOf(image, whole []byte, list []api.Change) []byte {
+	out := bytes.Clone(image)
+	for at := 0; at < walBlocks*blockLen; at += blockLen {
+		data := whole[at:][:blockLen]
+		if slices.ContainsFunc(list, func(one api.Change) bool { return bytes.Equal(one.Data, data) }) {
+			copy(out[at:], data)
+		}
+	}
+	return out
+}
+
 // P10.4: all that ever may be safe on a small disk on which some commits are done, again and again, with the power going in any act of any of them and of any opening, and any choice of what survives. Each commit makes of the blocks what they were, or what they were with its changes: so none that was forgotten comes back, whatever later ones leave in the journal.
 func TestForgottenCommitsStayForgotten(t *testing.T) {
 	a, b := row(31), row(32)
